@@ -1,11 +1,9 @@
 package tongue
 
 import (
-	"strconv"
 	"strings"
 
 	"optima/api"
-	"optima/ratio"
 )
 
 // Which rule an expression has to be of, where it stands.
@@ -366,27 +364,9 @@ func decimal(text string) string {
 	if !strings.Contains(text, "/") {
 		return text
 	}
-	size, below := strings.CutPrefix(text, "-")
-	top, bottom, _ := strings.Cut(size, "/")
-	value, ok := wholeNumber(top).Quo(wholeNumber(bottom))
+	value, ok := Number(text)
 	if !ok {
 		panic(noText())
 	}
-	digits := strings.TrimRight(value.Decimal(api.MaxPlaces), "0")
-	if below {
-		return "-" + digits
-	}
-	return digits
-}
-
-// wholeNumber reads digits. A numerator may have MaxPlaces more than ratio.Read takes one behind the other: a point and an exponent part them.
-func wholeNumber(digits string) ratio.R {
-	if more := len(digits) - api.MaxDigits; more > 0 {
-		digits = digits[:api.MaxDigits] + "." + digits[api.MaxDigits:] + "e" + strconv.Itoa(more)
-	}
-	value, err := ratio.Read(digits)
-	if err != nil {
-		panic(noText())
-	}
-	return value
+	return strings.TrimRight(value.Decimal(api.MaxPlaces), "0")
 }
