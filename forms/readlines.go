@@ -72,13 +72,8 @@ func (r *lineReader) next() token { return r.tokens[0] }
 // need throws err at the line of the next token.
 func (r *lineReader) need(right bool, err error) { needAt(r.next().line, right, err) }
 
-// pass goes past the next token; behind the end there is none.
-func (r *lineReader) pass() token {
-	passed := r.next()
-	r.need(passed.kind != anEnd, api.ErrText)
-	r.tokens = r.tokens[1:]
-	return passed
-}
+// pass goes past the next token, which is not the end.
+func (r *lineReader) pass() { r.tokens = r.tokens[1:] }
 
 // takes goes past a word or a sign, if it is the next token.
 func (r *lineReader) takes(mark string) bool {

@@ -195,7 +195,7 @@ func TestLinesWrong(t *testing.T) {
 		{"minimize x subject to bounds x free\nx\n<= 1.1.1", 2, api.ErrName},
 		{"minimize x subject to bounds x free\n1 <=\nx free", 3, api.ErrName},
 		{"minimize x subject to bounds x free generals\ny\n+", 2, api.ErrName},
-		{"minimize x subject to bounds x free generals x\nx +", 2, api.ErrText},
+		{"minimize x subject to bounds x free generals x\nx\n+", 2, api.ErrText},
 		{"minimize x subject to bounds x free generals x\nr end", 2, api.ErrName},
 		// numbers of a row's sum, when its last token is read
 		{"minimize x subject to r:\nx\n+ 1 <=\n5\n r: x free", 2, api.ErrText},

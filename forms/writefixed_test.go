@@ -48,11 +48,11 @@ func TestWriteFixed(t *testing.T) {
 
 // TestFixedShort: what need not stand does not.
 func TestFixedShort(t *testing.T) {
-	p := problem(t, "maximize 3 x + 10 y - 5 subject to one: 0 <= x + y <= 4 two: 200 x + y <= 0 bounds 0 <= x <= 1 y >= 0 generals x end")
-	want := "OBJSENSE\n    MAX\nROWS\n N  0\n G  one\n L  two\nCOLUMNS\n" +
+	p := problem(t, "maximize 3 x + 10 y - 5 subject to one: 0 <= x + y <= 4 two: 200 x + y <= 0 three: -4 <= y <= 0 four: y = 9 bounds 0 <= x <= 1 y >= 0 generals x end")
+	want := "OBJSENSE\n    MAX\nROWS\n N  0\n G  one\n L  two\n L  three\n E  four\nCOLUMNS\n" +
 		"    x         two       200            0         3\n    x         one       1\n" +
-		"    y         0         10             one       1\n    y         two       1\n" +
-		"RHS\n    r         0         5\nRANGES\n    r         one       4\nBOUNDS\n BV b         x\nENDATA\n"
+		"    y         0         10             two       1\n    y         one       1              three     1\n    y         four      1\n" +
+		"RHS\n    r         four      9              0         5\nRANGES\n    r         one       4              three     4\nBOUNDS\n BV b         x\nENDATA\n"
 	if text := checkBack(t, WriteFixed, ReadFixed, p); text != want {
 		t.Errorf("%s\nwant\n%s", text, want)
 	}
@@ -162,7 +162,14 @@ func dense(cols, rows int, by ratio.R) *linear.Problem {
 func TestFixedErrorsInOrder(t *testing.T) {
 	checkBack(t, WriteFixed, ReadFixed, dense(18, 40, ratio.Int(2)))
 	checkBack(t, WriteFixed, ReadFixed, dense(api.MaxCols, 3, ratio.Int(2)))
-	p := dense(30, 40, ratio.Int(2))
+	p := dense(19, 40, ratio.Int(2))
+	for i := range 15 {
+		p.Rows = append(p.Rows, linear.Row{Name: "s" + strconv.Itoa(i)})
+	}
+	lengthen(t, p, api.MaxFixed, api.MaxText, func() int { return len(checkBack(t, WriteFixed, ReadFixed, p)) })
+	p.Rows[len(p.Rows)-1].Name += "_"
+	checkPlain(t, "one more", WriteFixed, p, api.ErrBound)
+	p = dense(30, 40, ratio.Int(2))
 	checkPlain(t, "long", WriteFixed, p, api.ErrBound)
 	p.Cols[29].High = bound(number(t, "1/3"))
 	checkPlain(t, "a number", WriteFixed, p, api.ErrNumber)

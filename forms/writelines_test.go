@@ -28,7 +28,9 @@ func TestWriteLines(t *testing.T) {
 	if text := checkBack(t, WriteLines, ReadLines, p); strings.ReplaceAll(text, "3/2", "1.5") != want {
 		t.Errorf("%s\nwant\n%s", text, want)
 	}
-	checkBack(t, WriteLines, ReadLines, &linear.Problem{})
+	if text := checkBack(t, WriteLines, ReadLines, &linear.Problem{}); text != "minimize nought\nsubject to\nbounds\nend\n" {
+		t.Error(text)
+	}
 	p.Rows[0].Low, p.Rows[0].High = p.Rows[0].High, p.Rows[0].Low
 	checkBack(t, WriteLines, ReadLines, p)
 }
@@ -46,6 +48,52 @@ func TestTight(t *testing.T) {
 			t.Fatalf("%s: %s\n%s", shown(p), faultText(err), text)
 		}
 	}
+	w := &lineWriter{}
+	w.whole(problem(t, baseLines))
+	if text := w.tight.String(); text != "maximize 3x+1/2y+7subject to one:2<=x+2y<=6two:-x=3/2three:nought free bounds 0<=x<=4y free z>=-2generals x end" {
+		t.Error(text)
+	}
+}
+
+// lengthen makes rows' names longer, of so many bytes at most, until a text of the problem is of so many bytes.
+func lengthen(t *testing.T, p *linear.Problem, most, want int, length func() int) {
+	t.Helper()
+	missing := want - length()
+	for i := range p.Rows {
+		more := min(missing, most-len(p.Rows[i].Name))
+		p.Rows[i].Name += strings.Repeat("_", more)
+		missing -= more
+	}
+	if missing != 0 || length() != want {
+		t.Fatal(missing, length())
+	}
+}
+
+// TestLinesJust: a text of just so many bytes as may be there, and one of one more; with its blanks, and without them.
+func TestLinesJust(t *testing.T) {
+	written := func(p *linear.Problem) *lineWriter {
+		w := &lineWriter{}
+		_ = caught(func() { w.whole(p) })
+		return w
+	}
+	p := dense(60, 50, ratio.Int(1))
+	wide := func() int { return written(p).wide.Len() }
+	lengthen(t, p, api.MaxWord, api.MaxText, wide)
+	if text := checkBack(t, WriteLines, ReadLines, p); len(text) != api.MaxText {
+		t.Error(len(text))
+	}
+	lengthen(t, p, api.MaxWord, api.MaxText+1, wide)
+	if text := checkBack(t, WriteLines, ReadLines, p); len(text) != written(p).tight.Len() {
+		t.Error(len(text))
+	}
+	p = dense(86, 36, ratio.Int(11))
+	tight := func() int { return written(p).tight.Len() }
+	lengthen(t, p, api.MaxWord, api.MaxText, tight)
+	if text := checkBack(t, WriteLines, ReadLines, p); len(text) != api.MaxText {
+		t.Error(len(text))
+	}
+	lengthen(t, p, api.MaxWord, api.MaxText+1, tight)
+	checkPlain(t, "one more", WriteLines, p, api.ErrBound)
 }
 
 func TestLineNames(t *testing.T) {
