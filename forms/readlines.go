@@ -105,7 +105,7 @@ func (r *lineReader) sign() ratio.R {
 
 func (r *lineReader) signed() linear.Bound { return bound(r.sign().Mul(r.number())) }
 
-// sum reads a sum. Of one that may be a row's end rowEnd is told.
+// sum reads a sum; rowEnd is whether a row may end with it, so that a name behind a number may be the next row's.
 func (r *lineReader) sum(rowEnd bool) *lineSum {
 	s := &lineSum{line: r.next().line}
 	if r.takes("nought") {

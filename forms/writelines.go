@@ -12,8 +12,8 @@ import (
 // lineWriter is a text of the line format as far as it is written, with its blanks and lines, and without all that need not stand: with them a text may be too long that is not without.
 type lineWriter struct {
 	wide, tight strings.Builder
-	last        string // the word ahead in this line of the wide text
-	lastTight   string // the word ahead
+	begun       bool   // whether a word stands in this line of the wide text
+	last        string // the word ahead
 }
 
 func linesText(p *linear.Problem) string {
@@ -49,15 +49,15 @@ func (w *lineWriter) whole(p *linear.Problem) {
 // put writes words.
 func (w *lineWriter) put(words ...string) {
 	for _, word := range words {
-		if w.last != "" && word != ":" {
+		if w.begun && word != ":" {
 			w.wide.WriteByte(' ')
 		}
 		w.wide.WriteString(word)
-		if runsOn(w.lastTight, word) {
+		if runsOn(w.last, word) {
 			w.tight.WriteByte(' ')
 		}
 		w.tight.WriteString(word)
-		w.last, w.lastTight = word, word
+		w.begun, w.last = true, word
 	}
 	need(w.tight.Len() <= api.MaxText, api.ErrBound)
 }
@@ -66,7 +66,7 @@ func (w *lineWriter) put(words ...string) {
 func (w *lineWriter) line(words ...string) {
 	w.put(words...)
 	w.wide.WriteByte('\n')
-	w.last = ""
+	w.begun = false
 }
 
 // runsOn is whether a word would be read as one with the word ahead, if nothing parted them.
