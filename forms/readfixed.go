@@ -155,7 +155,7 @@ func (r *fixedReader) column(c card) {
 	for _, p := range c.pairs() {
 		by := r.number(p.number)
 		r.need(by.Sign() != 0, api.ErrNumber)
-		row := r.rowOf(p.name)
+		row := r.rowOrGoal(p.name)
 		r.need(row.lately != len(r.cols), api.ErrText)
 		row.lately = len(r.cols)
 		if row == r.rows[0] {
@@ -200,9 +200,17 @@ func (r *fixedReader) number(text string) ratio.R {
 	return value
 }
 
-func (r *fixedReader) rowOf(name string) *fixedRow {
+// rowOrGoal is what has that name.
+func (r *fixedReader) rowOrGoal(name string) *fixedRow {
 	row := r.rowNamed[name]
 	r.need(row != nil, api.ErrName)
+	return row
+}
+
+// rowAlone is the row of that name: the goal is kept beside the rows, but is none of them.
+func (r *fixedReader) rowAlone(name string) *fixedRow {
+	row := r.rowOrGoal(name)
+	r.need(row != r.rows[0], api.ErrName)
 	return row
 }
 
@@ -210,7 +218,7 @@ func (r *fixedReader) sides(c card) {
 	r.need(c.hasPairs(), api.ErrText)
 	for _, p := range c.pairs() {
 		at := r.number(p.number)
-		row := r.rowOf(p.name)
+		row := r.rowOrGoal(p.name)
 		r.need(row == r.rows[0] || row.kind != "N", api.ErrText)
 		r.need(!row.side.Has, api.ErrText)
 		row.side = bound(at)
@@ -221,7 +229,7 @@ func (r *fixedReader) ranges(c card) {
 	r.need(c.hasPairs(), api.ErrText)
 	for _, p := range c.pairs() {
 		at := r.number(p.number)
-		row := r.rowOf(p.name)
+		row := r.rowAlone(p.name)
 		r.need(row.kind != "N" && !row.reach.Has, api.ErrText)
 		row.reach = bound(at)
 	}
