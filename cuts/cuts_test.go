@@ -10,7 +10,6 @@ import (
 
 	"optima/api"
 	"optima/linear"
-	"optima/plain"
 	"optima/ratio"
 	"optima/tongue"
 )
@@ -30,11 +29,31 @@ func problem(t *testing.T, text string) *linear.Problem {
 
 func numbers(t *testing.T, text string) []ratio.R {
 	t.Helper()
-	out, ok := plain.Numbers(strings.Fields(text))
-	if !ok {
-		t.Fatalf("%s: no numbers", text)
+	var out []ratio.R
+	for _, word := range strings.Fields(text) {
+		r, err := ratio.Read(word)
+		if err != nil {
+			t.Fatalf("%s: %v", word, err)
+		}
+		out = append(out, r)
 	}
 	return out
+}
+
+func texts(list []ratio.R) []string {
+	var out []string
+	for _, r := range list {
+		out = append(out, r.Text())
+	}
+	return out
+}
+
+// boundText is empty of none.
+func boundText(b linear.Bound) string {
+	if !b.Has {
+		return ""
+	}
+	return b.At.Text()
 }
 
 // stands is where columns stand, a letter each.
@@ -48,7 +67,7 @@ func stands(letters string) []int {
 
 // told is a row in one line, with all that must not be there.
 func told(r linear.Row) string {
-	out := plain.BoundText(r.Low) + ".." + plain.BoundText(r.High)
+	out := boundText(r.Low) + ".." + boundText(r.High)
 	for _, t := range r.Terms {
 		out += " " + t.By.Text() + "*" + strconv.Itoa(t.Col)
 	}
@@ -409,6 +428,6 @@ func TestMemory(t *testing.T) {
 		}
 	}
 	if !reflect.DeepEqual(p, twin) || by[0].Text() != "1/2" || !slices.Equal(where, stands("BLH")) || !slices.Equal(set, []int{0, 1}) {
-		t.Errorf("%+v, %v, %v, %v", p, plain.Texts(by), where, set)
+		t.Errorf("%+v, %v, %v, %v", p, texts(by), where, set)
 	}
 }

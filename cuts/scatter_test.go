@@ -9,7 +9,6 @@ import (
 
 	"optima/api"
 	"optima/linear"
-	"optima/plain"
 	"optima/ratio"
 	"optima/simplex"
 )
@@ -117,7 +116,7 @@ func (s *scatter) set(p *linear.Problem, i int) []int {
 	var out []int
 	free := s.below(4) == 0
 	for col, c := range p.Cols {
-		fit := c.Whole && plain.BoundText(c.Low) == "0" && plain.BoundText(c.High) == "1" && slices.ContainsFunc(p.Rows[i].Terms, func(t linear.Term) bool { return t.Col == col && t.By.Sign() > 0 })
+		fit := c.Whole && boundText(c.Low) == "0" && boundText(c.High) == "1" && slices.ContainsFunc(p.Rows[i].Terms, func(t linear.Term) bool { return t.Col == col && t.By.Sign() > 0 })
 		if (free || fit) && s.below(5) > 1 {
 			out = append(out, col)
 		}
@@ -290,7 +289,7 @@ func plainCover(p *linear.Problem, i int, set []int) string {
 	for _, t := range p.Rows[i].Terms {
 		c := p.Cols[t.Col]
 		if slices.Contains(set, t.Col) {
-			if !c.Whole || plain.BoundText(c.Low) != "0" || plain.BoundText(c.High) != "1" || t.By.Sign() < 0 {
+			if !c.Whole || boundText(c.Low) != "0" || boundText(c.High) != "1" || t.By.Sign() < 0 {
 				return "shape"
 			}
 			inRow++
@@ -354,10 +353,10 @@ func TestCombinePlainly(t *testing.T) {
 		count.one(want)
 		twin := linear.Twin(p)
 		if got := answered(Combine(p, by)); got != want {
-			t.Fatalf("%+v by %v: %s, want %s", plain.Spec(p), plain.Texts(by), got, want)
+			t.Fatalf("%+v by %v: %s, want %s", p, texts(by), got, want)
 		}
 		if !reflect.DeepEqual(p, twin) {
-			t.Fatalf("%+v has changed", plain.Spec(twin))
+			t.Fatalf("%+v has changed", twin)
 		}
 	}
 	count.atLeast(t, 400, "row", "open", "shape")
@@ -375,11 +374,11 @@ func TestMixedPlainly(t *testing.T) {
 			want := plainMixed(p, where, col)
 			count.one(want)
 			if got := answered(Mixed(p, where, col)); got != want {
-				t.Fatalf("%+v at %v, column %d: %s, want %s", plain.Spec(p), where, col, got, want)
+				t.Fatalf("%+v at %v, column %d: %s, want %s", p, where, col, got, want)
 			}
 		}
 		if !reflect.DeepEqual(p, twin) {
-			t.Fatalf("%+v has changed", plain.Spec(twin))
+			t.Fatalf("%+v has changed", twin)
 		}
 	}
 	count.atLeast(t, 1000, "row", "open", "shape", "basis")
@@ -396,7 +395,7 @@ func TestCoverPlainly(t *testing.T) {
 		want := plainCover(p, i, set)
 		count.one(want)
 		if got := answered(Cover(p, i, set)); got != want {
-			t.Fatalf("%+v, row %d, %v: %s, want %s", plain.Spec(p), i, set, got, want)
+			t.Fatalf("%+v, row %d, %v: %s, want %s", p, i, set, got, want)
 		}
 	}
 	count.atLeast(t, 500, "row", "open", "shape")
@@ -457,7 +456,7 @@ func kept(t *testing.T, p *linear.Problem, r linear.Row) (some, reached bool) {
 	}
 	kind, value := most(t, p, terms)
 	if kind == api.Endless || kind == api.Best && value.Cmp(side) > 0 {
-		t.Fatalf("%+v: %s is not kept: %s", plain.Spec(p), told(r), value.Text())
+		t.Fatalf("%+v: %s is not kept: %s", p, told(r), value.Text())
 	}
 	return kind == api.Best, kind == api.Best && value.Cmp(side) == 0
 }
@@ -510,7 +509,7 @@ func missed(t *testing.T, p *linear.Problem, where []int, r linear.Row) {
 		t.Fatal(err)
 	}
 	if linear.Sum(r.Terms, f.X).Cmp(r.Low.At.Sub(ratio.Int(1))) != 0 {
-		t.Fatalf("%+v at %v: %s is not missed by 1", plain.Spec(p), where, told(r))
+		t.Fatalf("%+v at %v: %s is not missed by 1", p, where, told(r))
 	}
 }
 
@@ -535,10 +534,10 @@ func TestCutOff(t *testing.T) {
 			q := linear.Twin(p)
 			q.Rows = append(q.Rows, r)
 			if err := linear.Valid(q); err != nil {
-				t.Fatalf("%+v: %v", plain.Spec(q), err)
+				t.Fatalf("%+v: %v", q, err)
 			}
 			if ok, _ := linear.Holds(q, c.X, false); ok {
-				t.Fatalf("%+v: %v still holds", plain.Spec(q), plain.Texts(c.X))
+				t.Fatalf("%+v: %v still holds", q, texts(c.X))
 			}
 		}
 	}
